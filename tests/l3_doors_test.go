@@ -43,20 +43,27 @@ func everyTick(f func(d impl.Door, ask, blocked bool)) {
 
 // everyTicks calls f for all that can happen to a door in so many ticks: the ticks in which it is asked to open, and those in which something is in its way.
 func everyTicks(ticks int, f func(asks, blocks []int)) {
-	subset := func(bits int) []int {
+	lists := everyChoice(ticks)
+	for _, asks := range lists {
+		for _, blocks := range lists {
+			f(asks, blocks)
+		}
+	}
+}
+
+// everyChoice returns all lists of some of so many ticks, each in ascending order.
+func everyChoice(ticks int) [][]int {
+	var lists [][]int
+	for bits := range 1 << ticks {
 		var list []int
 		for tick := range ticks {
 			if bits>>tick&1 == 1 {
 				list = append(list, tick)
 			}
 		}
-		return list
+		lists = append(lists, list)
 	}
-	for asks := range 1 << ticks {
-		for blocks := range 1 << ticks {
-			f(subset(asks), subset(blocks))
-		}
-	}
+	return lists
 }
 
 // laterBy returns numbers of ticks as they are told when the first ones are over.
