@@ -94,6 +94,15 @@ func noFloors(floors []int) []int {
 	return list
 }
 
+// goodAndBadFloors returns buildings, and lists that are none.
+func goodAndBadFloors() [][]int {
+	list := slices.Clone(liftFloors)
+	for _, floors := range badFloors() {
+		list = append(list, floors)
+	}
+	return list
+}
+
 func TestLiftValid(t *testing.T) {
 	for _, floors := range liftFloors {
 		everyLift(floors, func(x impl.Lift) {
@@ -420,11 +429,7 @@ func TestLiftsOfFloorsThatAreNotValid(t *testing.T) {
 }
 
 func TestLiftsDoNotWriteToTheirFloors(t *testing.T) {
-	lists := slices.Clone(liftFloors)
-	for _, floors := range badFloors() {
-		lists = append(lists, floors)
-	}
-	for _, floors := range lists {
+	for _, floors := range goodAndBadFloors() {
 		// Behind the end there is spare room, which is not to be written to either.
 		whole := append(slices.Clone(floors), 77, 78)
 		before := slices.Clone(whole)

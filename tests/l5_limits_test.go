@@ -62,19 +62,24 @@ func badMotions() []impl.Motion {
 	return list
 }
 
-// everyRun calls f for every list of so many speeds out of some, and all the ticks in which there can be a reset.
-func everyRun(ticks int, some []int, f func(speeds, resets []int)) {
+// listsOf returns every list of so many numbers out of some.
+func listsOf(many int, some []int) [][]int {
 	lists := [][]int{{}}
-	for range ticks {
+	for range many {
 		var longer [][]int
 		for _, list := range lists {
-			for _, speed := range some {
-				longer = append(longer, append(slices.Clone(list), speed))
+			for _, n := range some {
+				longer = append(longer, append(slices.Clone(list), n))
 			}
 		}
 		lists = longer
 	}
-	for _, speeds := range lists {
+	return lists
+}
+
+// everyRun calls f for every list of so many speeds out of some, and all the ticks in which there can be a reset.
+func everyRun(ticks int, some []int, f func(speeds, resets []int)) {
+	for _, speeds := range listsOf(ticks, some) {
 		for _, resets := range everyChoice(ticks) {
 			f(speeds, resets)
 		}
